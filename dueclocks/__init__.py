@@ -1,0 +1,1 @@
+"""Dueclocks: answering times in opening hours, as exact maps of moments."""

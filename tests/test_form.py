@@ -1,0 +1,159 @@
+"""The names of the interface, and the rules on the form of the code that can be counted."""
+
+import ast
+import importlib
+import inspect
+import pathlib
+import unittest
+
+FOLDER = pathlib.Path(__file__).resolve().parent.parent / "dueclocks"
+
+FUNCTIONS = {
+    "work": {
+        "work": ["calendar", "begin", "end"],
+        "due": ["calendar", "moment", "amount"],
+        "latest": ["calendar", "moment", "amount"],
+        "next_open": ["calendar", "moment"],
+        "last_open": ["calendar", "moment"],
+        "count_open": ["calendar", "begin", "end"],
+        "nth_open": ["calendar", "moment", "index"],
+        "first_unlike": ["calendar", "other"],
+    },
+}
+CLASSES = {
+    "errors": {
+        name: []
+        for name in (
+            "DueError", "InvalidWeek", "InvalidSpeed", "NeverOpen", "InvalidChange",
+            "InvalidAmount", "InvalidSpan", "InvalidMoment", "UnlikeWeeks", "NotRising",
+            "WrongState", "NothingToUndo", "TooMany", "Unreadable",
+        )
+    },
+    "calendars": {
+        "Calendar": [
+            "__init__", "week", "speeds", "changes", "__getitem__", "__contains__",
+            "__or__", "__and__", "moved", "__eq__",
+        ],
+    },
+}
+BUILTINS = (
+    "len range enumerate zip min max sum abs sorted reversed int str bool list tuple dict set "
+    "isinstance ord repr any all divmod ValueError TypeError KeyError"
+).split()
+METHODS = {"__init__", "__eq__", "__len__", "__call__", "__iter__", "__getitem__", "__contains__",
+           "__or__", "__and__", "__rshift__", "__invert__", "__mul__", "__rmul__"}
+DECORATORS = {"property", "classmethod", "staticmethod"}
+STATEMENTS_BARRED = (
+    ast.AsyncFunctionDef, ast.AsyncFor, ast.AsyncWith, ast.Await, ast.Global, ast.Import,
+)
+
+
+def sources():
+    return sorted(FOLDER.rglob("*.py"))
+
+
+def nodes(path, *kinds):
+    tree = ast.parse(path.read_text(encoding="utf-8"))
+    return [node for node in ast.walk(tree) if isinstance(node, kinds)]
+
+
+class InterfaceTest(unittest.TestCase):
+    def test_functions_stand_in_their_files_with_their_arguments(self):
+        for file, functions in FUNCTIONS.items():
+            module = importlib.import_module(f"dueclocks.{file}")
+            for name, arguments in functions.items():
+                function = getattr(module, name)
+                self.assertEqual(function.__module__, f"dueclocks.{file}")
+                self.assertEqual(list(inspect.signature(function).parameters), arguments)
+
+    def test_classes_stand_in_their_files_with_their_own_methods(self):
+        for file, classes in CLASSES.items():
+            module = importlib.import_module(f"dueclocks.{file}")
+            for name, methods in classes.items():
+                self.assertEqual(getattr(module, name).__module__, f"dueclocks.{file}")
+                for method in methods:
+                    self.assertIn(method, vars(getattr(module, name)))
+
+    def test_properties(self):
+        calendars = importlib.import_module("dueclocks.calendars")
+        for name in ("week", "speeds", "changes"):
+            self.assertIsInstance(vars(calendars.Calendar)[name], property)
+
+
+class FormTest(unittest.TestCase):
+    def test_the_folder_holds_nothing_but_its_files(self):
+        for path in FOLDER.rglob("*"):
+            if "__pycache__" not in path.parts:
+                self.assertTrue(path.is_file() and path.suffix == ".py", path)
+
+    def test_sizes_and_characters(self):
+        for path in sources():
+            text = path.read_text(encoding="ascii")
+            self.assertLessEqual(len(text.splitlines()), 399, path)
+            for line in text.splitlines():
+                self.assertLessEqual(len(line), 120, path)
+                self.assertTrue(line == "" or line.isprintable(), (path, line))
+
+    def test_functions_are_short(self):
+        for path in sources():
+            for node in nodes(path, ast.FunctionDef):
+                self.assertLessEqual(node.end_lineno - node.lineno + 1, 40, (path, node.name))
+
+    def test_imports_name_what_the_package_defines(self):
+        for path in sources():
+            for node in nodes(path, ast.ImportFrom):
+                self.assertEqual(node.level, 0, path)
+                self.assertRegex(node.module, "^dueclocks[.]", path)
+                module = importlib.import_module(node.module)
+                for alias in node.names:
+                    self.assertIsNone(alias.asname, path)
+                    self.assertEqual(getattr(module, alias.name).__module__, node.module)
+
+    def test_no_barred_statements_and_no_annotations(self):
+        for path in sources():
+            self.assertEqual(nodes(path, *STATEMENTS_BARRED, ast.AnnAssign), [], path)
+            for node in nodes(path, ast.FunctionDef):
+                arguments = node.args.args + node.args.kwonlyargs
+                self.assertTrue(all(one.annotation is None for one in arguments), path)
+
+    def test_no_floats_and_no_true_division(self):
+        for path in sources():
+            self.assertEqual(nodes(path, ast.Div), [], path)
+            for node in nodes(path, ast.Constant):
+                self.assertNotIsInstance(node.value, (float, complex), path)
+
+    def test_only_known_decorators_and_double_underscores(self):
+        for path in sources():
+            for node in nodes(path, ast.FunctionDef):
+                for decorator in node.decorator_list:
+                    self.assertIn(decorator.id, DECORATORS, path)
+                if node.name.startswith("__"):
+                    self.assertIn(node.name, METHODS, path)
+
+    def test_only_listed_builtins_and_none_with_another_meaning(self):
+        barred = set(dir(__builtins__) if not isinstance(__builtins__, dict) else __builtins__)
+        for path in sources():
+            for node in nodes(path, ast.Name):
+                if node.id in barred and node.id not in DECORATORS:
+                    self.assertIn(node.id, BUILTINS, path)
+                    self.assertIsInstance(node.ctx, ast.Load, (path, node.id))
+            for node in nodes(path, ast.arg):
+                self.assertNotIn(node.arg, barred, path)
+
+    def test_each_module_level_name_is_bound_once(self):
+        for path in sources():
+            bound = []
+            for node in ast.parse(path.read_text(encoding="utf-8")).body:
+                if isinstance(node, ast.ImportFrom):
+                    bound += [alias.name for alias in node.names]
+                elif isinstance(node, (ast.FunctionDef, ast.ClassDef)):
+                    bound.append(node.name)
+                elif isinstance(node, ast.Assign):
+                    bound += [target.id for target in node.targets]
+                else:
+                    self.assertIsInstance(node.value.value, str, (path, "not a docstring"))
+            self.assertEqual(len(bound), len(set(bound)), path)
+
+
+if __name__ == "__main__":
+    unittest.main()
