@@ -1,9 +1,9 @@
 """Calendars: a speed for each moment, the same in every week but for single changes."""
 
-from dueclocks.errors import InvalidChange, InvalidSpeed, InvalidWeek, NeverOpen
-from dueclocks.moments import check_weeks
+from dueclocks.checks import check_week, check_weeks, is_behind
+from dueclocks.errors import InvalidChange, InvalidSpeed, NeverOpen
+from dueclocks.moments import changed_moments
 
-GREATEST_WEEK = 12
 GREATEST_SPEED = 3
 
 
@@ -14,8 +14,7 @@ def is_speed(number):
 
 def check_speeds(speeds):
     """Raise an error if a list is not one of the speeds of a week."""
-    if not 1 <= len(speeds) <= GREATEST_WEEK:
-        raise InvalidWeek(len(speeds))
+    check_week(len(speeds))
     for index, speed in enumerate(speeds):
         if not is_speed(speed):
             raise InvalidSpeed(index)
@@ -25,16 +24,9 @@ def check_speeds(speeds):
 
 def check_changes(changes):
     """Raise an error if a change has a wrong speed or does not ascend."""
-    for index, (moment, speed) in enumerate(changes):
-        if not is_speed(speed):
+    for index, (_, speed) in enumerate(changes):
+        if not is_speed(speed) or not is_behind(changes, index):
             raise InvalidChange(index)
-        if index > 0 and moment <= changes[index - 1][0]:
-            raise InvalidChange(index)
-
-
-def changed_moments(one, other):
-    """Return the moments that at least one of two calendars changes, ascending."""
-    return sorted({moment for moment, _ in one.changes + other.changes})
 
 
 def speed_pairs(one, other):

@@ -1,20 +1,8 @@
 """Work, amounts and open moments of calendars."""
 
-from dueclocks.calendars import Calendar, changed_moments
-from dueclocks.errors import InvalidAmount, InvalidSpan
-from dueclocks.moments import check_weeks, nearest
-
-
-def check_span(begin, end):
-    """Raise InvalidSpan if a span ends before it begins."""
-    if end < begin:
-        raise InvalidSpan((begin, end))
-
-
-def check_amount(amount):
-    """Raise InvalidAmount if an amount is negative."""
-    if amount < 0:
-        raise InvalidAmount(amount)
+from dueclocks.calendars import Calendar
+from dueclocks.checks import check_amount, check_span, check_weeks
+from dueclocks.moments import changed_moments, nearest
 
 
 def weekly_tally(speeds, moment):

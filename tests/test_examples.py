@@ -24,6 +24,40 @@ WORK = """
 [3, 6, 3, 5, 7, -4, 4, 0]
 """
 
+RULES = """
+>>> from dueclocks.calendars import Calendar
+>>> from dueclocks.rules import Rule, earlier_of, in_turn, later_of
+>>> desk = Calendar([1, 1, 0], [(4, 0)])
+>>> two, wait = Rule.promise(desk, 2), Rule.opening(desk)
+>>> [two.base, two.changes, [two(t) for t in range(-1, 7)], wait.base, wait.changes, wait(4), 4 in wait, 4 in two]
+[[2, 3, 3], [(2, 5), (3, 4), (4, 4), (5, 3), (6, 2), (7, 3)], [2, 2, 4, 7, 7, 8, 8, 8], [0, 0, 1], [(4, 2), (7, 0)], 6, False, True]
+>>> late = ~two
+>>> [[late(u) for u in (2, 3, 4, 6, 7, 8)], (two >> wait)(2), (two | Rule.delay(3, 4))(0), (two & Rule.delay(3, 4))(2), two * 0 == Rule.delay(3, 0), in_turn(two, wait, two)(0), later_of(wait, two) == two, earlier_of(wait, two) == wait, Rule([1, 0], []).base]
+[[0, 0, 1, 1, 3, 6], 7, 4, 6, True, 7, True, True, [1, 0]]
+"""
+
+COMPARE = """
+>>> from dueclocks.calendars import Calendar
+>>> from dueclocks.compare import first_later, followed, is_wait, parting, parting_in_turn, soonest
+>>> from dueclocks.rules import Rule
+>>> desk, plain = Calendar([1, 1, 0], [(4, 0)]), Calendar([1, 1, 0], [])
+>>> one, two = Rule.promise(desk, 1), Rule.promise(desk, 2)
+>>> [parting(one >> one, two), parting(two, Rule.promise(plain, 2)), first_later(Rule.promise(plain, 2), two), first_later(two, one), parting_in_turn(one, Rule.delay(3, 3)), parting_in_turn(one, Rule.delay(3, 1)), followed(one, two) == one, followed(two, Rule.delay(3, 1)), is_wait(Rule.opening(desk)), is_wait(one), soonest(one)(7), (~one)(7)]
+[None, 2, None, 0, 1, 1, True, None, True, False, 4, 6]
+"""
+
+WAITS_AND_REACHED = """
+>>> from dueclocks.calendars import Calendar
+>>> from dueclocks.reached import count_reached, first_missed, nth_reached, starts
+>>> from dueclocks.rules import Rule
+>>> from dueclocks.waits import count_waits, greatest_wait, least_wait, nth_wait, sum_waits, waits_from
+>>> two = Rule.promise(Calendar([1, 1, 0], [(4, 0)]), 2)
+>>> [least_wait(two), greatest_wait(two), count_waits(two, 0, 9, 3), count_waits(two, 0, 3 * 10 ** 30, 2), sum_waits(two, 0, 3), sum_waits(two, 3, 3), nth_wait(two, 0, 3), nth_wait(two, 0, 3, index=2), nth_wait(two, 3, 5), list(waits_from(two, 1, 3))]
+[(2, 0), (5, 2), 4, 999999999999999999999999999999, 10, 0, 1, 7, None, [(1, 4), (2, 7), (3, 7)]]
+>>> [starts(two, 8), starts(two, 5), count_reached(two, 0, 9), nth_reached(two, 3, 1), first_missed(two), first_missed(Rule.delay(5, -7))]
+[(4, 6), None, 5, 7, 0, None]
+"""
+
 
 class ExamplesTest(unittest.TestCase):
     def run_text(self, text):
@@ -39,6 +73,15 @@ class ExamplesTest(unittest.TestCase):
 
     def test_work(self):
         self.run_text(WORK)
+
+    def test_rules(self):
+        self.run_text(RULES)
+
+    def test_compare(self):
+        self.run_text(COMPARE)
+
+    def test_waits_and_reached(self):
+        self.run_text(WAITS_AND_REACHED)
 
     def test_readme(self):
         self.run_text(README.read_text(encoding="utf-8"))

@@ -1,6 +1,7 @@
 """The names of the interface, and the rules on the form of the code that can be counted."""
 
 import ast
+import builtins
 import importlib
 import inspect
 import pathlib
@@ -19,6 +20,33 @@ FUNCTIONS = {
         "nth_open": ["calendar", "moment", "index"],
         "first_unlike": ["calendar", "other"],
     },
+    "rules": {
+        "in_turn": ["rule", "others"],
+        "later_of": ["rule", "others"],
+        "earlier_of": ["rule", "others"],
+    },
+    "compare": {
+        "parting": ["rule", "other"],
+        "first_later": ["rule", "other"],
+        "parting_in_turn": ["rule", "other"],
+        "followed": ["rule", "whole"],
+        "soonest": ["rule"],
+        "is_wait": ["rule"],
+    },
+    "waits": {
+        "least_wait": ["rule"],
+        "greatest_wait": ["rule"],
+        "count_waits": ["rule", "begin", "end", "wait"],
+        "sum_waits": ["rule", "begin", "end"],
+        "nth_wait": ["rule", "begin", "wait", "index"],
+        "waits_from": ["rule", "begin", "many"],
+    },
+    "reached": {
+        "starts": ["rule", "moment"],
+        "count_reached": ["rule", "begin", "end"],
+        "nth_reached": ["rule", "begin", "index"],
+        "first_missed": ["rule"],
+    },
 }
 CLASSES = {
     "errors": {
@@ -35,7 +63,20 @@ CLASSES = {
             "__or__", "__and__", "moved", "__eq__",
         ],
     },
+    "rules": {
+        "Rule": [
+            "__init__", "week", "base", "changes", "__call__", "__contains__", "__eq__",
+            "__rshift__", "__or__", "__and__", "__invert__", "__mul__", "__rmul__",
+            "promise", "opening", "delay",
+        ],
+    },
 }
+PROPERTIES = {
+    ("calendars", "Calendar"): ["week", "speeds", "changes"],
+    ("rules", "Rule"): ["week", "base", "changes"],
+}
+ITERATED_AT_ONCE = {"range", "zip", "enumerate", "reversed"}
+ITERATING = {"list", "tuple", "dict", "sorted", "sum", "any", "all", "min", "max", "zip", "enumerate"}
 BUILTINS = (
     "len range enumerate zip min max sum abs sorted reversed int str bool list tuple dict set "
     "isinstance ord repr any all divmod ValueError TypeError KeyError"
@@ -75,9 +116,19 @@ class InterfaceTest(unittest.TestCase):
                     self.assertIn(method, vars(getattr(module, name)))
 
     def test_properties(self):
-        calendars = importlib.import_module("dueclocks.calendars")
-        for name in ("week", "speeds", "changes"):
-            self.assertIsInstance(vars(calendars.Calendar)[name], property)
+        for (file, name), properties in PROPERTIES.items():
+            module = importlib.import_module(f"dueclocks.{file}")
+            for one in properties:
+                self.assertIsInstance(vars(getattr(module, name))[one], property)
+
+    def test_class_methods(self):
+        rules = importlib.import_module("dueclocks.rules")
+        for name, arguments in (
+            ("promise", ["calendar", "amount"]), ("opening", ["calendar"]), ("delay", ["week", "number"]),
+        ):
+            self.assertIsInstance(vars(rules.Rule)[name], classmethod)
+            method = getattr(rules.Rule, name)
+            self.assertEqual(list(inspect.signature(method).parameters), arguments)
 
 
 class FormTest(unittest.TestCase):
@@ -131,7 +182,8 @@ class FormTest(unittest.TestCase):
                     self.assertIn(node.name, METHODS, path)
 
     def test_only_listed_builtins_and_none_with_another_meaning(self):
-        barred = set(dir(__builtins__) if not isinstance(__builtins__, dict) else __builtins__)
+        # A doctest leaves the name _ among the builtins.
+        barred = set(dir(builtins)) - {"_"}
         for path in sources():
             for node in nodes(path, ast.Name):
                 if node.id in barred and node.id not in DECORATORS:
@@ -139,6 +191,25 @@ class FormTest(unittest.TestCase):
                     self.assertIsInstance(node.ctx, ast.Load, (path, node.id))
             for node in nodes(path, ast.arg):
                 self.assertNotIn(node.arg, barred, path)
+
+    def test_what_is_iterated_at_once_is_not_passed_on(self):
+        for path in sources():
+            every = nodes(path, ast.For, ast.comprehension, ast.Call)
+            calls = [node for node in every if isinstance(node, ast.Call) and isinstance(node.func, ast.Name)]
+            iterated = [node.iter for node in every if not isinstance(node, ast.Call)]
+            iterated += [one for node in calls if node.func.id in ITERATING for one in node.args]
+            for node in calls:
+                if node.func.id in ITERATED_AT_ONCE:
+                    self.assertTrue(any(node is one for one in iterated), (path, node.lineno))
+
+    def test_no_local_name_is_that_of_a_class_or_an_import(self):
+        for path in sources():
+            held = {alias.name for node in nodes(path, ast.ImportFrom) for alias in node.names}
+            held |= {node.name for node in nodes(path, ast.ClassDef)}
+            for node in nodes(path, ast.Name):
+                self.assertFalse(isinstance(node.ctx, ast.Store) and node.id in held, (path, node.id))
+            for node in nodes(path, ast.arg):
+                self.assertNotIn(node.arg, held, path)
 
     def test_each_module_level_name_is_bound_once(self):
         for path in sources():
