@@ -94,7 +94,7 @@ class Rule:
     def delay(cls, week, number):
         """Return the rule that waits so many moments."""
         check_week(week)
-        return cls([number] * week, [])
+        return cls([number for _ in range(week)], [])
 
     @property
     def week(self):
@@ -161,7 +161,7 @@ class Rule:
         moments = changed_moments(self)
         # A week ahead of all changes gives the base, each moment of one week once.
         first = min(moments, default=0) - 1
-        base = [0] * self.week
+        base = [0 for _ in range(self.week)]
         for goal, offset in latest_changes(self, list(range(first - self.week, first))):
             base[goal % len(base)] = offset
         # Other starts than these two, a week apart, are latest for moments a week apart.
