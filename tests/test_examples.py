@@ -2,9 +2,11 @@
 
 import doctest
 import pathlib
+import re
 import unittest
 
 README = pathlib.Path(__file__).resolve().parent.parent / "README.md"
+DOCUMENT = README.parent.parent / "shared" / "DOC.md"
 
 CALENDARS = """
 >>> from dueclocks.calendars import Calendar
@@ -58,6 +60,34 @@ WAITS_AND_REACHED = """
 [(4, 6), None, 5, 7, 0, None]
 """
 
+FAR = """
+>>> from dueclocks.calendars import Calendar
+>>> from dueclocks.far import after, orbit, rates, times_until
+>>> from dueclocks.rules import Rule
+>>> two = Rule.promise(Calendar([1, 1, 0], [(4, 0)]), 2)
+>>> [list(orbit(two, -1, 4)), after(two, 0, 10 ** 30), times_until(two, 0, 8), times_until(two, 3, 3), times_until(Rule([1, 0], []), 0, 2), rates(two), rates(Rule([0, 0], [(3, 1)]))]
+[[-1, 2, 7, 10, 13], 3000000000000000000000000000001, 3, 0, None, ((3, 1), (3, 1)), ((0, 1), (0, 1))]
+"""
+
+TICKETS = """
+>>> from dueclocks.calendars import Calendar
+>>> from dueclocks.tickets import ShortTicket, Ticket
+>>> desk = Calendar([1, 1, 0], [(4, 0)])
+>>> ticket = Ticket(desk, 3, 0)
+>>> [ticket.done_at(), ticket.left_at(2), ticket.pause(2), ticket.left, ticket.done_at(), ticket.can_wait(7), ticket.can_wait(5), ticket.can_wait(1), ticket.resume(4), ticket.done_at(), ticket.enlarge(2, 6), ticket.done_at(), ticket.undo(), ticket.done_at(), ticket.story(), len(ticket), ticket == ShortTicket(desk, 3, 0, 9)]
+[4, 1, None, 1, None, 6, 3, None, None, 7, None, 10, None, 7, [('pause', 2), ('resume', 4)], 2, False]
+"""
+
+TEXTS_AND_READINGS = """
+>>> from dueclocks.calendars import Calendar
+>>> from dueclocks.readings import read_calendar, read_rule
+>>> from dueclocks.rules import Rule
+>>> from dueclocks.texts import show_calendar, show_rule
+>>> desk = Calendar([1, 1, 0], [(4, 0), (7, 1)])
+>>> [show_calendar(desk), show_rule(Rule.delay(2, -5)), read_calendar("1 1 0 / 4:0") == desk, read_rule("0 0 1 / 4:2 7:0") == Rule.opening(desk)]
+['1 1 0 / 4:0', '-5 -5 / -', True, True]
+"""
+
 
 class ExamplesTest(unittest.TestCase):
     def run_text(self, text):
@@ -82,6 +112,23 @@ class ExamplesTest(unittest.TestCase):
 
     def test_waits_and_reached(self):
         self.run_text(WAITS_AND_REACHED)
+
+    def test_far(self):
+        self.run_text(FAR)
+
+    def test_tickets(self):
+        self.run_text(TICKETS)
+
+    def test_texts_and_readings(self):
+        self.run_text(TEXTS_AND_READINGS)
+
+    def test_they_are_those_of_the_document(self):
+        if not DOCUMENT.is_file():
+            self.skipTest("the document does not lie beside this folder")
+        found = re.findall("^```\n(.*?)^```$", DOCUMENT.read_text(encoding="utf-8"), re.DOTALL | re.MULTILINE)
+        self.assertEqual(found, [text[1:] for text in (
+            CALENDARS, WORK, RULES, COMPARE, WAITS_AND_REACHED, FAR, TICKETS, TEXTS_AND_READINGS,
+        )])
 
     def test_readme(self):
         self.run_text(README.read_text(encoding="utf-8"))

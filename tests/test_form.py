@@ -6,6 +6,7 @@ import importlib
 import inspect
 import pathlib
 import unittest
+from functools import lru_cache
 
 FOLDER = pathlib.Path(__file__).resolve().parent.parent / "dueclocks"
 
@@ -47,6 +48,20 @@ FUNCTIONS = {
         "nth_reached": ["rule", "begin", "index"],
         "first_missed": ["rule"],
     },
+    "far": {
+        "after": ["rule", "moment", "times"],
+        "orbit": ["rule", "moment", "times"],
+        "times_until": ["rule", "moment", "goal"],
+        "rates": ["rule"],
+    },
+    "texts": {
+        "show_calendar": ["calendar"],
+        "show_rule": ["rule"],
+    },
+    "readings": {
+        "read_calendar": ["text"],
+        "read_rule": ["text"],
+    },
 }
 CLASSES = {
     "errors": {
@@ -70,20 +85,52 @@ CLASSES = {
             "promise", "opening", "delay",
         ],
     },
+    "tickets": {
+        "Ticket": [
+            "__init__", "moment", "left", "is_paused", "pause", "resume", "switch", "enlarge",
+            "undo", "left_at", "done_at", "can_wait", "story", "__len__", "__eq__",
+        ],
+        "ShortTicket": ["__init__", "pause", "resume", "switch", "enlarge"],
+    },
+}
+METHODS_WITH_ARGUMENTS = {
+    ("calendars", "Calendar"): {
+        "__init__": ["speeds", "changes"], "moved": ["number"],
+    },
+    ("rules", "Rule"): {
+        "__init__": ["base", "changes"],
+    },
+    ("tickets", "Ticket"): {
+        "__init__": ["calendar", "amount", "moment"], "pause": ["moment"], "resume": ["moment"],
+        "switch": ["calendar", "moment"], "enlarge": ["amount", "moment"], "undo": [],
+        "left_at": ["moment"], "done_at": [], "can_wait": ["limit"], "story": [],
+    },
+    ("tickets", "ShortTicket"): {
+        "__init__": ["calendar", "amount", "moment", "most"], "pause": ["moment"],
+        "resume": ["moment"], "switch": ["calendar", "moment"], "enlarge": ["amount", "moment"],
+    },
 }
 PROPERTIES = {
     ("calendars", "Calendar"): ["week", "speeds", "changes"],
     ("rules", "Rule"): ["week", "base", "changes"],
+    ("tickets", "Ticket"): ["moment", "left", "is_paused"],
 }
+LIBRARY = {"math": ["gcd"]}
 ITERATED_AT_ONCE = {"range", "zip", "enumerate", "reversed"}
 ITERATING = {"list", "tuple", "dict", "sorted", "sum", "any", "all", "min", "max", "zip", "enumerate"}
 BUILTINS = (
     "len range enumerate zip min max sum abs sorted reversed int str bool list tuple dict set "
-    "isinstance ord repr any all divmod ValueError TypeError KeyError"
+    "isinstance ord repr any all divmod ValueError TypeError KeyError super"
 ).split()
 METHODS = {"__init__", "__eq__", "__len__", "__call__", "__iter__", "__getitem__", "__contains__",
            "__or__", "__and__", "__rshift__", "__invert__", "__mul__", "__rmul__"}
 DECORATORS = {"property", "classmethod", "staticmethod"}
+METHODS_OF_VALUES = (
+    "append clear copy count endswith extend find get index insert isalnum isalpha isdigit islower "
+    "isspace isupper items join keys ljust lower lstrip partition pop remove replace reverse rfind "
+    "rjust rpartition rsplit rstrip setdefault split splitlines startswith strip update upper values "
+    "zfill bit_length"
+).split()
 STATEMENTS_BARRED = (
     ast.AsyncFunctionDef, ast.AsyncFor, ast.AsyncWith, ast.Await, ast.Global, ast.Import,
 )
@@ -93,9 +140,14 @@ def sources():
     return sorted(FOLDER.rglob("*.py"))
 
 
+@lru_cache(maxsize=None)
+def tree(path):
+    """Return the nodes of a file, each time the very same ones."""
+    return ast.parse(path.read_text(encoding="utf-8"))
+
+
 def nodes(path, *kinds):
-    tree = ast.parse(path.read_text(encoding="utf-8"))
-    return [node for node in ast.walk(tree) if isinstance(node, kinds)]
+    return [node for node in ast.walk(tree(path)) if isinstance(node, kinds)]
 
 
 class InterfaceTest(unittest.TestCase):
@@ -114,6 +166,13 @@ class InterfaceTest(unittest.TestCase):
                 self.assertEqual(getattr(module, name).__module__, f"dueclocks.{file}")
                 for method in methods:
                     self.assertIn(method, vars(getattr(module, name)))
+
+    def test_methods_with_their_arguments(self):
+        for (file, name), methods in METHODS_WITH_ARGUMENTS.items():
+            module = importlib.import_module(f"dueclocks.{file}")
+            for method, arguments in methods.items():
+                parameters = inspect.signature(vars(getattr(module, name))[method]).parameters
+                self.assertEqual(list(parameters), ["self", *arguments])
 
     def test_properties(self):
         for (file, name), properties in PROPERTIES.items():
@@ -154,11 +213,14 @@ class FormTest(unittest.TestCase):
         for path in sources():
             for node in nodes(path, ast.ImportFrom):
                 self.assertEqual(node.level, 0, path)
-                self.assertRegex(node.module, "^dueclocks[.]", path)
-                module = importlib.import_module(node.module)
                 for alias in node.names:
                     self.assertIsNone(alias.asname, path)
-                    self.assertEqual(getattr(module, alias.name).__module__, node.module)
+                    if node.module in LIBRARY:
+                        self.assertIn(alias.name, LIBRARY[node.module], path)
+                    else:
+                        self.assertRegex(node.module, "^dueclocks[.]", path)
+                        module = importlib.import_module(node.module)
+                        self.assertEqual(getattr(module, alias.name).__module__, node.module)
 
     def test_no_barred_statements_and_no_annotations(self):
         for path in sources():
@@ -211,10 +273,105 @@ class FormTest(unittest.TestCase):
             for node in nodes(path, ast.arg):
                 self.assertNotIn(node.arg, held, path)
 
+    def test_methods_that_are_called_are_own_ones_or_listed(self):
+        own = {node.name for path in sources() for node in nodes(path, ast.FunctionDef)}
+        for path in sources():
+            for node in nodes(path, ast.Call):
+                if isinstance(node.func, ast.Attribute):
+                    self.assertIn(node.func.attr, {*own, *METHODS_OF_VALUES}, (path, node.lineno))
+
+    def test_no_name_is_a_method_and_an_attribute(self):
+        methods = {
+            node.name
+            for path in sources()
+            for one in nodes(path, ast.ClassDef)
+            for node in one.body
+            if isinstance(node, ast.FunctionDef)
+        }
+        stored = {
+            node.attr
+            for path in sources()
+            for node in nodes(path, ast.Attribute)
+            if isinstance(node.ctx, ast.Store)
+        }
+        read = {node.attr for path in sources() for node in nodes(path, ast.Attribute)}
+        self.assertEqual(methods & stored, set())
+        self.assertLessEqual(read, {*methods, *stored, *METHODS_OF_VALUES})
+
+    def test_generators_have_names_of_their_own_and_are_iterated_at_once(self):
+        functions = [node for path in sources() for node in nodes(path, ast.FunctionDef)]
+        yielding = [node.name for node in functions if any(isinstance(one, ast.Yield) for one in ast.walk(node))]
+        self.assertEqual(sorted(yielding), ["orbit", "waits_from"])
+        for name in yielding:
+            self.assertEqual([node.name for node in functions].count(name), 1)
+        for path in sources():
+            named = [node for node in nodes(path, ast.Name) if node.id in yielding]
+            called = [
+                node.args[0].func
+                for node in nodes(path, ast.Call)
+                if isinstance(node.func, ast.Name) and node.func.id in ITERATING - {"min", "max"}
+                and len(node.args) == 1 and isinstance(node.args[0], ast.Call)
+            ]
+            for node in named:
+                self.assertTrue(any(node is one for one in called), (path, node.lineno))
+            self.assertEqual(nodes(path, ast.GeneratorExp), [], path)
+
+    def test_sets_are_only_sorted_counted_or_asked(self):
+        for path in sources():
+            plain = []
+            for node in nodes(path, ast.Call, ast.Compare):
+                if isinstance(node, ast.Compare):
+                    plain += node.comparators
+                elif getattr(node.func, "id", "") in ("sorted", "len") and not node.keywords:
+                    plain += node.args
+            for node in nodes(path, ast.Set, ast.SetComp, ast.Call):
+                if not isinstance(node, ast.Call) or getattr(node.func, "id", "") == "set":
+                    self.assertTrue(any(node is one for one in plain), (path, node.lineno))
+
+    def test_only_own_errors_are_raised_and_caught(self):
+        for path in sources():
+            for node in nodes(path, ast.Try):
+                self.assertEqual((node.orelse, node.finalbody), ([], []), path)
+                for handler in node.handlers:
+                    self.assertIn(handler.type.id, CLASSES["errors"], path)
+            for node in nodes(path, ast.Raise):
+                self.assertIsInstance(node.exc, ast.Call, path)
+                self.assertIn(node.exc.func.id, {*CLASSES["errors"], "TypeError"}, path)
+                self.assertTrue(node.cause is None or node.cause.value is None, path)
+
+    def test_super_stands_only_as_a_call_of_a_method(self):
+        for path in sources():
+            named = [node for node in nodes(path, ast.Name) if node.id == "super"]
+            called = [
+                node.func.value.func
+                for node in nodes(path, ast.Call)
+                if isinstance(node.func, ast.Attribute) and not node.func.attr.startswith("__")
+                and isinstance(node.func.value, ast.Call) and node.func.value.args == []
+            ]
+            for node in named:
+                self.assertTrue(any(node is one for one in called), (path, node.lineno))
+
+    def test_strings_are_plain(self):
+        for path in sources():
+            for node in nodes(path, ast.Constant):
+                if isinstance(node.value, str):
+                    self.assertNotIn("%", node.value, (path, node.lineno))
+                    self.assertNotIn("__", node.value, (path, node.lineno))
+
+    def test_no_file_imports_from_one_that_imports_from_it(self):
+        ahead = {
+            path.stem: {node.module.split(".")[1] for node in nodes(path, ast.ImportFrom) if "." in node.module}
+            for path in sources()
+        }
+        while ahead:
+            free = [name for name, needed in ahead.items() if not needed]
+            self.assertNotEqual(free, [], ahead)
+            ahead = {name: needed - set(free) for name, needed in ahead.items() if name not in free}
+
     def test_each_module_level_name_is_bound_once(self):
         for path in sources():
             bound = []
-            for node in ast.parse(path.read_text(encoding="utf-8")).body:
+            for node in tree(path).body:
                 if isinstance(node, ast.ImportFrom):
                     bound += [alias.name for alias in node.names]
                 elif isinstance(node, (ast.FunctionDef, ast.ClassDef)):

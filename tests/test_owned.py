@@ -37,9 +37,9 @@ class OwnedTest(unittest.TestCase):
         run = {node.name for node in owned.Package(package_texts()).run()}
         for name in (
             "__invert__", "__rshift__", "__or__", "__and__", "__mul__", "__rmul__", "__eq__",
-            "__contains__", "__getitem__", "week", "base", "changes", "speeds", "latest_changes",
-            "telling_changes", "lanes_of", "latest_start", "beside", "check_rising",
-            "passing_moments", "delay", "check_speeds",
+            "__contains__", "__getitem__", "__len__", "week", "base", "changes", "speeds", "moment",
+            "left", "is_paused", "latest_changes", "telling_changes", "lanes_of", "latest_start",
+            "beside", "check_rising", "passing_moments", "delay", "check_speeds",
         ):
             self.assertIn(name, run)
 
